@@ -1,0 +1,130 @@
+package wards
+
+import (
+	"strings"
+	"testing"
+
+	"wards/api"
+	"wards/plan"
+)
+
+// document is the image of DOC.md's section Examples, byte by byte.
+const document = "\x01\x01\x00\x80\x00\x00" +
+	"\x08\x01\x00\x00\x00\x00\x00\x10\x00\x40\x07" +
+	"\x00\x03\x01\x00\x00\x05\x01\x10\x00\x07\x04\x01\x00\x00"
+
+// number gives a number as so many bytes, the high one first.
+func number(bytes, v int) string {
+	s := ""
+	for range bytes {
+		s = string([]byte{byte(v)}) + s
+		v >>= 8
+	}
+	return s
+}
+
+// text writes a plan as an image, also one that is out of bounds.
+func text(p plan.Plan) string {
+	s := number(1, len(p.Wards)) + number(1, p.Gap) + number(2, p.Memory) + number(1, len(p.Wires)) + number(1, len(p.Owners))
+	for _, w := range p.Wards {
+		s += wardText(w)
+	}
+	for _, w := range p.Wires {
+		s += number(1, w.From) + number(1, w.To)
+	}
+	for _, ward := range p.Owners {
+		s += number(1, ward)
+	}
+	return s
+}
+
+func wardText(w plan.Ward) string {
+	var s strings.Builder
+	s.WriteString(number(1, w.Quantum) + number(1, len(w.Regions)) + number(2, int(w.Begin)))
+	for _, r := range w.Regions {
+		s.WriteString(number(2, r.First) + number(2, r.Words) + number(2, r.Base) + number(1, r.Rights))
+	}
+	s.WriteString(number(2, len(w.Program)))
+	for _, v := range w.Program {
+		s.WriteString(number(4, int(v)))
+	}
+	return s.String()
+}
+
+// ordinary gives so many wards of 8 words each, from the word 100 on, in a memory of 200.
+func ordinary(count int) plan.Plan {
+	p := plan.Plan{Gap: 1, Memory: 200}
+	for i := range count {
+		p.Wards = append(p.Wards, plan.Ward{Quantum: 1, Regions: []plan.Region{{First: 0, Words: 8, Base: 100 + 8*i, Rights: 7}}})
+	}
+	return p
+}
+
+// with gives one ward with these regions, in a memory of 200 words. Its K is 32.
+func with(regions ...plan.Region) plan.Plan {
+	p := ordinary(1)
+	p.Wards[0].Regions = regions
+	return p
+}
+
+// wired gives two ordinary wards and these wires.
+func wired(wires ...plan.Wire) plan.Plan {
+	p := ordinary(2)
+	p.Wires = wires
+	return p
+}
+
+// owned gives two ordinary wards and these devices.
+func owned(owners ...int) plan.Plan {
+	p := ordinary(2)
+	p.Owners = owners
+	return p
+}
+
+// several is a plan of three unlike wards, with wires and devices. Its K is 16 + 48 + 4 = 68.
+func several() plan.Plan {
+	return plan.Plan{
+		Gap:    16,
+		Memory: 160,
+		Wards: []plan.Ward{
+			{Quantum: 5, Begin: 300, Regions: []plan.Region{{First: 300, Words: 4, Base: 150, Rights: 5}, {First: 0, Words: 10, Base: 100, Rights: 3}}, Program: []uint32{7, 8, 1<<32 - 1}},
+			{Quantum: 64, Begin: 0xffff, Regions: []plan.Region{{First: 32767, Words: 1, Base: 120, Rights: 1}}},
+			{Quantum: 1, Begin: 2, Regions: []plan.Region{{First: 299, Words: 2, Base: 68, Rights: 2}, {First: 5, Words: 1, Base: 70, Rights: 4}, {First: 301, Words: 6, Base: 154, Rights: 6}}, Program: []uint32{0x12345678, 9}},
+		},
+		Wires:  []plan.Wire{{From: 0, To: 1}, {From: 2, To: 0}},
+		Owners: []int{1, 1, 0},
+	}
+}
+
+func boot(t *testing.T, image string) *Kernel {
+	t.Helper()
+	x, e := Boot(image)
+	if x == nil || e != api.OK {
+		t.Fatalf("P3: Boot(%x): %d", image, e)
+	}
+	return x
+}
+
+// words gives all the memory's words, as far as Word tells them.
+func words(x *Kernel) []uint32 {
+	var l []uint32
+	for {
+		w, e := x.Word(len(l))
+		if e != api.OK {
+			return l
+		}
+		l = append(l, w)
+	}
+}
+
+// views gives all the wards' views.
+func views(x *Kernel) []api.View {
+	var l []api.View
+	for {
+		v, e := x.View(len(l))
+		if e != api.OK {
+			return l
+		}
+		l = append(l, v)
+	}
+}

@@ -1,0 +1,151 @@
+package wards
+
+import (
+	"math"
+	"slices"
+	"strconv"
+	"strings"
+	"testing"
+
+	"wards/api"
+	"wards/plan"
+)
+
+func decimal(v int) string { return strconv.Itoa(v) }
+
+// seen is all that is to be seen of a kernel's words and wards.
+type seen struct {
+	clock int
+	words []uint32
+	views []api.View
+}
+
+func look(x *Kernel) seen { return seen{x.Clock(), words(x), views(x)} }
+
+func (a seen) equals(b seen) bool {
+	return a.clock == b.clock && slices.Equal(a.words, b.words) && slices.Equal(a.views, b.views)
+}
+
+// images has some that are right, of unlike shape.
+func images() []string {
+	full := ordinary(4)
+	for range api.MaxWires {
+		full.Wires = append(full.Wires, plan.Wire{From: 3, To: 2})
+	}
+	full.Owners = make([]int, api.MaxDevices)
+	return []string{document, text(several()), text(ordinary(1)), text(full)}
+}
+
+func TestTextsCutOff(t *testing.T) {
+	for _, s := range images() {
+		boot(t, s)
+		for n := range len(s) {
+			mustAnswer(t, []example{{"cut off at " + decimal(n), s[:n], api.ErrImage}})
+		}
+	}
+}
+
+func TestTextsWithMore(t *testing.T) {
+	for _, s := range images() {
+		for b := range 256 {
+			mustAnswer(t, []example{{"a byte more", s + string([]byte{byte(b)}), api.ErrImage}})
+		}
+		mustAnswer(t, []example{{"twice", s + s, api.ErrImage}, {"much more", s + strings.Repeat("\x00", 1<<20), api.ErrImage}})
+	}
+}
+
+func TestTextsOfNoKind(t *testing.T) {
+	for _, s := range []string{"", "\x00", "image", "\xff", strings.Repeat("\xff", 1<<20), strings.Repeat("\x00", 1<<20), strings.Repeat("\x01", 1<<20), strings.Repeat("é", 1000)} {
+		mustAnswer(t, []example{{decimal(len(s)) + " bytes", s, api.ErrImage}})
+	}
+}
+
+// TestEveryByteChanged: Check and Boot answer alike of whatever text, and a kernel that Boot gives can be looked at.
+func TestEveryByteChanged(t *testing.T) {
+	for _, s := range images() {
+		for i := range s {
+			for b := range 256 {
+				changed := s[:i] + string([]byte{byte(b)}) + s[i+1:]
+				e := Check(changed)
+				if e < api.OK || e > api.ErrWiring {
+					t.Fatalf("P2: Check(%x) = %d", changed, e)
+				}
+				mustAnswer(t, []example{{"a byte changed", changed, e}})
+				if x, _ := Boot(changed); x != nil && len(views(x)) != int(changed[0]) {
+					t.Fatalf("P3: Boot(%x): %d wards", changed, len(views(x)))
+				}
+			}
+		}
+	}
+}
+
+// TestErrorsChangeNothing: calls with numbers far out of bounds end, and leave the kernel as it was.
+func TestErrorsChangeNothing(t *testing.T) {
+	for _, s := range images() {
+		x := boot(t, s)
+		before := look(x)
+		for _, n := range append(outside, api.MaxMemory, -api.MaxRun) {
+			x.Word(n)
+			x.View(n)
+			x.Peek(n, 0)
+			x.Peek(n, math.MaxUint32)
+		}
+		for _, a := range []uint32{api.Devices, 1 << 31, math.MaxUint32} {
+			x.Peek(0, a)
+		}
+		if after := look(x); !after.equals(before) {
+			t.Errorf("P1: of %x: %+v became %+v", s, before, after)
+		}
+	}
+}
+
+// TestLookingChangesNothing: what is told of a kernel is the same however often it is asked.
+func TestLookingChangesNothing(t *testing.T) {
+	x := boot(t, text(several()))
+	first := look(x)
+	for a := range uint32(400) {
+		x.Peek(int(a%3), a)
+	}
+	if again := look(x); !again.equals(first) {
+		t.Errorf("P1: %+v became %+v", first, again)
+	}
+}
+
+// TestKernelsBesideOneAnother: what happens to one of two kernels, of one image too, is not to be seen of the other.
+func TestKernelsBesideOneAnother(t *testing.T) {
+	for _, s := range images() {
+		for _, other := range images() {
+			x := boot(t, s)
+			before := look(x)
+			y := boot(t, other)
+			if after := look(x); !after.equals(before) {
+				t.Errorf("P1: Boot of %x changed a kernel of %x", other, s)
+			}
+			spoil(y)
+			if after := look(x); !after.equals(before) {
+				t.Errorf("P1: a kernel of %x changed with one of %x", s, other)
+			}
+			if w, e := x.Peek(0, math.MaxUint32); w != 0 || e != api.ErrAddress {
+				t.Errorf("P1: a kernel of %x has a region of one of %x", s, other)
+			}
+			if z := look(boot(t, s)); !z.equals(before) {
+				t.Errorf("P1: Boot of %x answers otherwise behind one of %x", s, other)
+			}
+		}
+	}
+}
+
+// spoil changes all that a kernel keeps, in place.
+func spoil(x *Kernel) {
+	x.clock = 77
+	for i := range x.memory {
+		x.memory[i] = 0xdeadbeef
+	}
+	for i := range x.wards {
+		x.wards[i].Regs[0] = 1
+		x.wards[i].Place = 99
+		for k := range x.wards[i].regions {
+			x.wards[i].regions[k] = plan.Region{First: math.MaxUint32, Words: 1}
+		}
+	}
+}
