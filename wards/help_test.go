@@ -128,3 +128,64 @@ func views(x *Kernel) []api.View {
 		l = append(l, v)
 	}
 }
+
+// code gives an instruction.
+func code(c, a, b, n int) uint32 { return uint32(c<<24 | a<<20 | b<<16 | n) }
+
+// load gives the instruction that gives a register a number.
+func load(register, n int) uint32 { return code(api.Load, register, 0, n) }
+
+// call gives the instruction that calls the kernel.
+func call(n int) uint32 { return code(api.Call, 0, 0, n) }
+
+// programs gives a ward for each program: a quantum of 64, 16 words from address 0 on, in the memory from 200 + 16 times its number on.
+func programs(list ...[]uint32) plan.Plan {
+	p := plan.Plan{Gap: 1, Memory: 300}
+	for i, program := range list {
+		p.Wards = append(p.Wards, plan.Ward{Quantum: 64, Regions: []plan.Region{{First: 0, Words: 16, Base: 200 + 16*i, Rights: 7}}, Program: program})
+	}
+	return p
+}
+
+// timed gives a plan another gap, and its wards other quanta.
+func timed(p plan.Plan, gap int, quanta ...int) plan.Plan {
+	p.Gap = gap
+	for i, q := range quanta {
+		p.Wards[i].Quantum = q
+	}
+	return p
+}
+
+func run(t *testing.T, x *Kernel, n int) {
+	t.Helper()
+	if done := x.Run(n); done != n {
+		t.Fatalf("P4: Run(%d) = %d", n, done)
+	}
+}
+
+func view(t *testing.T, x *Kernel, ward int) api.View {
+	t.Helper()
+	v, e := x.View(ward)
+	if e != api.OK {
+		t.Fatalf("P8: View(%d): %d", ward, e)
+	}
+	return v
+}
+
+// mustView holds a ward's view against what it must be.
+func mustView(t *testing.T, why string, x *Kernel, ward int, want api.View) {
+	t.Helper()
+	if v := view(t, x, ward); v != want {
+		t.Errorf("%s: ward %d is %+v, want %+v", why, ward, v, want)
+	}
+}
+
+// mustHave holds words of the memory, from one on, against what they must be.
+func mustHave(t *testing.T, why string, x *Kernel, at int, want ...uint32) {
+	t.Helper()
+	for i, v := range want {
+		if w, e := x.Word(at + i); w != v || e != api.OK {
+			t.Errorf("%s: the word %d is %#x, %d, want %#x", why, at+i, w, e, v)
+		}
+	}
+}

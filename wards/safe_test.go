@@ -28,7 +28,7 @@ func (a seen) equals(b seen) bool {
 
 // images has some that are right, of unlike shape.
 func images() []string {
-	full := ordinary(4)
+	full := programs(counter(), []uint32{call(api.Send)}, []uint32{code(api.Mul, 0, 0, 0), call(api.Receive)}, []uint32{load(2, 5), call(api.Send), call(api.Yield), call(api.Send)})
 	for range api.MaxWires {
 		full.Wires = append(full.Wires, plan.Wire{From: 3, To: 2})
 	}
@@ -60,7 +60,7 @@ func TestTextsOfNoKind(t *testing.T) {
 	}
 }
 
-// TestEveryByteChanged: Check and Boot answer alike of whatever text, and a kernel that Boot gives can be looked at.
+// TestEveryByteChanged: Check and Boot answer alike of whatever text, and a kernel that Boot gives runs and can be looked at.
 func TestEveryByteChanged(t *testing.T) {
 	for _, s := range images() {
 		for i := range s {
@@ -71,8 +71,11 @@ func TestEveryByteChanged(t *testing.T) {
 					t.Fatalf("P2: Check(%x) = %d", changed, e)
 				}
 				mustAnswer(t, []example{{"a byte changed", changed, e}})
-				if x, _ := Boot(changed); x != nil && len(views(x)) != int(changed[0]) {
-					t.Fatalf("P3: Boot(%x): %d wards", changed, len(views(x)))
+				if x, _ := Boot(changed); x != nil {
+					run(t, x, 100)
+					if len(views(x)) != int(changed[0]) {
+						t.Fatalf("P3: Boot(%x): %d wards", changed, len(views(x)))
+					}
 				}
 			}
 		}
@@ -85,6 +88,9 @@ func TestErrorsChangeNothing(t *testing.T) {
 		x := boot(t, s)
 		before := look(x)
 		for _, n := range append(outside, api.MaxMemory, -api.MaxRun) {
+			if n < 1 {
+				x.Run(n)
+			}
 			x.Word(n)
 			x.View(n)
 			x.Peek(n, 0)
@@ -121,6 +127,7 @@ func TestKernelsBesideOneAnother(t *testing.T) {
 			if after := look(x); !after.equals(before) {
 				t.Errorf("P1: Boot of %x changed a kernel of %x", other, s)
 			}
+			run(t, y, 500)
 			spoil(y)
 			if after := look(x); !after.equals(before) {
 				t.Errorf("P1: a kernel of %x changed with one of %x", s, other)
@@ -128,8 +135,14 @@ func TestKernelsBesideOneAnother(t *testing.T) {
 			if w, e := x.Peek(0, math.MaxUint32); w != 0 || e != api.ErrAddress {
 				t.Errorf("P1: a kernel of %x has a region of one of %x", s, other)
 			}
-			if z := look(boot(t, s)); !z.equals(before) {
+			z := boot(t, s)
+			if !look(z).equals(before) {
 				t.Errorf("P1: Boot of %x answers otherwise behind one of %x", s, other)
+			}
+			run(t, x, 500)
+			run(t, z, 500)
+			if !look(z).equals(look(x)) {
+				t.Errorf("P1: a kernel of %x runs otherwise behind one of %x", s, other)
 			}
 		}
 	}
@@ -138,10 +151,15 @@ func TestKernelsBesideOneAnother(t *testing.T) {
 // spoil changes all that a kernel keeps, in place.
 func spoil(x *Kernel) {
 	x.clock = 77
+	x.table.Gap = 1000
+	for i := range x.wires {
+		x.wires[i] = plan.Wire{From: 9, To: 9}
+	}
 	for i := range x.memory {
 		x.memory[i] = 0xdeadbeef
 	}
 	for i := range x.wards {
+		x.table.Quanta[i] = 1000
 		x.wards[i].Regs[0] = 1
 		x.wards[i].Place = 99
 		for k := range x.wards[i].regions {

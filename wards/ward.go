@@ -13,9 +13,12 @@ type ward struct {
 }
 
 // find tells which word of the memory an address of the ward is, if it stands in one of its regions.
-func (w *ward) find(address uint32) (int, bool) {
+func (w *ward) find(address uint32) (int, bool) { return w.findWith(0, address) }
+
+// findWith does so, if the region has these rights.
+func (w *ward) findWith(rights int, address uint32) (int, bool) {
 	for _, r := range w.regions {
-		if at, ok := r.Find(address); ok {
+		if at, ok := r.Find(address); ok && r.Rights&rights == rights {
 			return at, true
 		}
 	}

@@ -4,13 +4,16 @@ package wards
 import (
 	"wards/api"
 	"wards/plan"
+	"wards/timetable"
 )
 
 // Kernel is a machine that was booted.
 type Kernel struct {
 	memory []uint32
 	clock  int
+	table  timetable.Table
 	wards  []ward
+	wires  []plan.Wire
 }
 
 // Check tells whether there is an image (P2).
@@ -29,7 +32,13 @@ func Boot(image string) (*Kernel, api.Errno) {
 }
 
 // Run does some cycles (P4).
-func (x *Kernel) Run(n int) int { return 0 }
+func (x *Kernel) Run(n int) int {
+	n = min(max(n, 0), api.MaxRun)
+	for range n {
+		x.cycle()
+	}
+	return n
+}
 
 // Clock tells how many cycles have been done (P4).
 func (x *Kernel) Clock() int { return x.clock }
