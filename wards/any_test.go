@@ -29,24 +29,58 @@ func anyPlan(r *rand.Rand) plan.Plan {
 			p.Wires = append(p.Wires, plan.Wire{From: from, To: to})
 		}
 	}
+	for range r.IntN(api.MaxDevices + 1) {
+		p.Owners = append(p.Owners, r.IntN(wards))
+	}
 	return p
 }
 
 // anyProgram gives instructions by chance, few of which have a cause.
 func anyProgram(r *rand.Rand) []uint32 {
 	var l []uint32
-	for range 16 {
-		c := 1 + r.IntN(api.Call)
-		n := r.IntN(24)
-		if c == api.Call {
-			n = r.IntN(api.Time + 1)
-		}
-		if r.IntN(50) == 0 {
-			c, n = r.IntN(256), r.IntN(1<<16)
-		}
-		l = append(l, code(c, r.IntN(16), r.IntN(16), n))
+	for range 15 {
+		l = append(l, anyInstruction(r))
 	}
-	return l
+	if r.IntN(8) == 0 {
+		return l
+	}
+	return append(l, code(api.Jump, 0, 0, r.IntN(15)))
+}
+
+// anyInstruction leaves register 7 a nought, mostly, by which words and devices are reached.
+func anyInstruction(r *rand.Rand) uint32 {
+	c, a, b, n := 1+r.IntN(api.Call), r.IntN(7), r.IntN(16), r.IntN(16)
+	if r.IntN(4) == 0 {
+		c = api.Get + r.IntN(2)
+	}
+	switch {
+	case r.IntN(60) == 0:
+		return code(r.IntN(256), r.IntN(16), r.IntN(16), r.IntN(1<<16))
+	case c == api.Div && r.IntN(4) > 0:
+		c = api.Mul
+	case c == api.Call && r.IntN(4) > 0:
+		n = []int{api.Yield, api.Who, api.Time}[r.IntN(3)]
+	case c == api.Call:
+		n = r.IntN(api.Time + 1)
+	case (c == api.Get || c == api.Put) && r.IntN(4) == 0:
+		b, n = 7, r.IntN(16)+4*r.IntN(3)
+	case c == api.Get:
+		b, n = 7, api.Devices+2*anyDevice(r)
+	case c == api.Put:
+		b, n = 7, api.Devices+2*anyDevice(r)+1
+	}
+	return code(c, a, b, n)
+}
+
+// anyDevice is the first one of a ward, mostly, which more wards have than a second one.
+func anyDevice(r *rand.Rand) int { return r.IntN(4) / 3 * r.IntN(3) }
+
+// latchAny has a device, if there are any, latch a word by chance.
+func latchAny(t *testing.T, r *rand.Rand, x *Kernel) {
+	t.Helper()
+	if len(x.devices) > 0 {
+		mustLatch(t, x, r.IntN(len(x.devices)), r.Uint32())
+	}
 }
 
 // TestAnyProgram: behind each of many portions the kernel's words are as the document says, and what is told of the kernel goes together.
@@ -56,6 +90,7 @@ func TestAnyProgram(t *testing.T) {
 		p := anyPlan(r)
 		x := boot(t, text(p))
 		for range 40 {
+			latchAny(t, r, x)
 			run(t, x, 1+r.IntN(40))
 			mustKeep(t, p, x)
 			mustAgree(t, p, x)

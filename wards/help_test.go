@@ -105,28 +105,43 @@ func boot(t *testing.T, image string) *Kernel {
 	return x
 }
 
-// words gives all the memory's words, as far as Word tells them.
-func words(x *Kernel) []uint32 {
-	var l []uint32
+// all gives all that a call tells, from 0 on.
+func all[T any](tell func(int) (T, api.Errno)) []T {
+	var l []T
 	for {
-		w, e := x.Word(len(l))
-		if e != api.OK {
-			return l
-		}
-		l = append(l, w)
-	}
-}
-
-// views gives all the wards' views.
-func views(x *Kernel) []api.View {
-	var l []api.View
-	for {
-		v, e := x.View(len(l))
+		v, e := tell(len(l))
 		if e != api.OK {
 			return l
 		}
 		l = append(l, v)
 	}
+}
+
+// words gives all the memory's words.
+func words(x *Kernel) []uint32 { return all(x.Word) }
+
+// views gives all the wards' views.
+func views(x *Kernel) []api.View { return all(x.View) }
+
+// logs gives all the devices' logs.
+func logs(x *Kernel) []string { return all(x.Log) }
+
+// latches gives what the devices have latched.
+func latches(x *Kernel) []uint32 {
+	var l []uint32
+	for _, d := range x.devices {
+		l = append(l, d.latched)
+	}
+	return l
+}
+
+// logText gives words as a log tells them.
+func logText(words ...uint32) string {
+	s := ""
+	for _, w := range words {
+		s += number(4, int(w))
+	}
+	return s
 }
 
 // code gives an instruction.
@@ -154,6 +169,17 @@ func timed(p plan.Plan, gap int, quanta ...int) plan.Plan {
 		p.Wards[i].Quantum = q
 	}
 	return p
+}
+
+// owning gives a plan devices, by their owners.
+func owning(p plan.Plan, owners ...int) plan.Plan {
+	p.Owners = owners
+	return p
+}
+
+// echo tells its first device what that one has latched, over and over, 5 cycles a word.
+func echo() []uint32 {
+	return []uint32{load(6, api.Devices), code(api.Get, 1, 6, 0), code(api.Put, 1, 6, 1), code(api.Jump, 0, 0, 1)}
 }
 
 func run(t *testing.T, x *Kernel, n int) {
@@ -187,5 +213,21 @@ func mustHave(t *testing.T, why string, x *Kernel, at int, want ...uint32) {
 		if w, e := x.Word(at + i); w != v || e != api.OK {
 			t.Errorf("%s: the word %d is %#x, %d, want %#x", why, at+i, w, e, v)
 		}
+	}
+}
+
+// mustLatch has a device latch a word.
+func mustLatch(t *testing.T, x *Kernel, device int, word uint32) {
+	t.Helper()
+	if e := x.Latch(device, word); e != api.OK {
+		t.Errorf("P7: Latch(%d, %#x) = %d", device, word, e)
+	}
+}
+
+// mustLog holds a device's log against the words that it must have.
+func mustLog(t *testing.T, why string, x *Kernel, device int, want ...uint32) {
+	t.Helper()
+	if s, e := x.Log(device); s != logText(want...) || e != api.OK {
+		t.Errorf("%s: Log(%d) = %x, %d, want %x", why, device, s, e, logText(want...))
 	}
 }

@@ -13,26 +13,29 @@ import (
 
 func decimal(v int) string { return strconv.Itoa(v) }
 
-// seen is all that is to be seen of a kernel's words and wards.
+// seen is all that is to be seen of a kernel, at once or by what its wards read later on.
 type seen struct {
-	clock int
-	words []uint32
-	views []api.View
+	clock   int
+	words   []uint32
+	views   []api.View
+	logs    []string
+	latches []uint32
 }
 
-func look(x *Kernel) seen { return seen{x.Clock(), words(x), views(x)} }
+func look(x *Kernel) seen { return seen{x.Clock(), words(x), views(x), logs(x), latches(x)} }
 
 func (a seen) equals(b seen) bool {
-	return a.clock == b.clock && slices.Equal(a.words, b.words) && slices.Equal(a.views, b.views)
+	return a.clock == b.clock && slices.Equal(a.words, b.words) && slices.Equal(a.views, b.views) &&
+		slices.Equal(a.logs, b.logs) && slices.Equal(a.latches, b.latches)
 }
 
 // images has some that are right, of unlike shape.
 func images() []string {
-	full := programs(counter(), []uint32{call(api.Send)}, []uint32{code(api.Mul, 0, 0, 0), call(api.Receive)}, []uint32{load(2, 5), call(api.Send), call(api.Yield), call(api.Send)})
+	full := programs(echo(), []uint32{call(api.Send)}, []uint32{code(api.Mul, 0, 0, 0), call(api.Receive)}, []uint32{load(2, 5), call(api.Send), call(api.Yield), call(api.Send)})
 	for range api.MaxWires {
 		full.Wires = append(full.Wires, plan.Wire{From: 3, To: 2})
 	}
-	full.Owners = make([]int, api.MaxDevices)
+	full.Owners = []int{3, 0, 1, 0, 0, 2, 0, 0}
 	return []string{document, text(several()), text(ordinary(1)), text(full)}
 }
 
@@ -86,6 +89,10 @@ func TestEveryByteChanged(t *testing.T) {
 func TestErrorsChangeNothing(t *testing.T) {
 	for _, s := range images() {
 		x := boot(t, s)
+		for d := range x.devices {
+			mustLatch(t, x, d, uint32(d+1))
+		}
+		run(t, x, 200)
 		before := look(x)
 		for _, n := range append(outside, api.MaxMemory, -api.MaxRun) {
 			if n < 1 {
@@ -95,6 +102,8 @@ func TestErrorsChangeNothing(t *testing.T) {
 			x.View(n)
 			x.Peek(n, 0)
 			x.Peek(n, math.MaxUint32)
+			x.Latch(n, 5)
+			x.Log(n)
 		}
 		for _, a := range []uint32{api.Devices, 1 << 31, math.MaxUint32} {
 			x.Peek(0, a)
@@ -111,6 +120,7 @@ func TestLookingChangesNothing(t *testing.T) {
 	first := look(x)
 	for a := range uint32(400) {
 		x.Peek(int(a%3), a)
+		x.Log(int(a % 3))
 	}
 	if again := look(x); !again.equals(first) {
 		t.Errorf("P1: %+v became %+v", first, again)
@@ -126,6 +136,9 @@ func TestKernelsBesideOneAnother(t *testing.T) {
 			y := boot(t, other)
 			if after := look(x); !after.equals(before) {
 				t.Errorf("P1: Boot of %x changed a kernel of %x", other, s)
+			}
+			for i := range y.devices {
+				mustLatch(t, y, i, 0xdeadbeef)
 			}
 			run(t, y, 500)
 			spoil(y)
@@ -158,12 +171,20 @@ func spoil(x *Kernel) {
 	for i := range x.memory {
 		x.memory[i] = 0xdeadbeef
 	}
+	for i := range x.devices {
+		x.devices[i].latched = 0xdeadbeef
+		x.devices[i].put(0xdeadbeef)
+		x.devices[i].log[0] = 'x'
+	}
 	for i := range x.wards {
 		x.table.Quanta[i] = 1000
 		x.wards[i].Regs[0] = 1
 		x.wards[i].Place = 99
 		for k := range x.wards[i].regions {
 			x.wards[i].regions[k] = plan.Region{First: math.MaxUint32, Words: 1}
+		}
+		for k := range x.wards[i].devices {
+			x.wards[i].devices[k] = 99
 		}
 	}
 }

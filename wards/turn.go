@@ -2,7 +2,7 @@ package wards
 
 import "wards/plan"
 
-// turn is what a ward reaches in its turn (processor.Outside): the words of its own regions, by their rights, and the kernel's calls.
+// turn is what a ward reaches in its turn (processor.Outside): the words of its own regions, by their rights, its own devices, and the kernel's calls.
 type turn struct {
 	kernel *Kernel
 	number int
@@ -11,11 +11,20 @@ type turn struct {
 // Fetch gives the word of an instruction.
 func (t turn) Fetch(address uint32) (uint32, bool) { return t.read(plan.Execute, address) }
 
-// Get gives a word to read.
-func (t turn) Get(address uint32) (uint32, bool) { return t.read(plan.Read, address) }
+// Get gives a word to read, or what a device has latched.
+func (t turn) Get(address uint32) (uint32, bool) {
+	if d, ok := t.device(inputAt, address); ok {
+		return d.latched, true
+	}
+	return t.read(plan.Read, address)
+}
 
-// Put writes a word.
+// Put writes a word, or puts it to a device.
 func (t turn) Put(address, word uint32) bool {
+	if d, ok := t.device(outputAt, address); ok {
+		d.put(word)
+		return true
+	}
 	at, ok := t.find(plan.Write, address)
 	if ok {
 		t.kernel.memory[at] = word
@@ -30,6 +39,15 @@ func (t turn) read(right int, address uint32) (uint32, bool) {
 		return 0, false
 	}
 	return t.kernel.memory[at], true
+}
+
+// device gives the device of the ward that has its input (or its output) at an address, if one has.
+func (t turn) device(part, address uint32) (*device, bool) {
+	number, ok := t.kernel.wards[t.number].findDevice(part, address)
+	if !ok {
+		return nil, false
+	}
+	return &t.kernel.devices[number], true
 }
 
 // find tells which word of the memory an address is, if the ward has this right there.

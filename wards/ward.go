@@ -10,6 +10,7 @@ import (
 type ward struct {
 	processor.State
 	regions []plan.Region
+	devices []int // the numbers of those it owns, rising
 }
 
 // find tells which word of the memory an address of the ward is, if it stands in one of its regions.
@@ -30,8 +31,8 @@ type report struct {
 	processor.State
 }
 
-// has tells whether there is a ward of this number.
-func (x *Kernel) has(number int) bool { return number >= 0 && number < len(x.wards) }
+// hasWard tells whether there is a ward of this number.
+func (x *Kernel) hasWard(number int) bool { return number >= 0 && number < len(x.wards) }
 
 // area gives a ward's save area, in the memory itself.
 func (x *Kernel) area(number int) []uint32 {

@@ -9,11 +9,12 @@ import (
 
 // Kernel is a machine that was booted.
 type Kernel struct {
-	memory []uint32
-	clock  int
-	table  timetable.Table
-	wards  []ward
-	wires  []plan.Wire
+	memory  []uint32
+	clock   int
+	table   timetable.Table
+	wards   []ward
+	wires   []plan.Wire
+	devices []device
 }
 
 // Check tells whether there is an image (P2).
@@ -44,10 +45,21 @@ func (x *Kernel) Run(n int) int {
 func (x *Kernel) Clock() int { return x.clock }
 
 // Latch sets a device's input (P7).
-func (x *Kernel) Latch(device int, word uint32) api.Errno { return api.OK }
+func (x *Kernel) Latch(device int, word uint32) api.Errno {
+	if !x.hasDevice(device) {
+		return api.ErrDevice
+	}
+	x.devices[device].latched = word
+	return api.OK
+}
 
 // Log tells what was put to a device (P7).
-func (x *Kernel) Log(device int) (string, api.Errno) { return "", api.OK }
+func (x *Kernel) Log(device int) (string, api.Errno) {
+	if !x.hasDevice(device) {
+		return "", api.ErrDevice
+	}
+	return string(x.devices[device].log), api.OK
+}
 
 // Word tells a word of the memory (P8).
 func (x *Kernel) Word(at int) (uint32, api.Errno) {
@@ -59,7 +71,7 @@ func (x *Kernel) Word(at int) (uint32, api.Errno) {
 
 // View tells how a ward is (P8).
 func (x *Kernel) View(ward int) (api.View, api.Errno) {
-	if !x.has(ward) {
+	if !x.hasWard(ward) {
 		return api.View{}, api.ErrWard
 	}
 	r := x.report(ward)
@@ -68,7 +80,7 @@ func (x *Kernel) View(ward int) (api.View, api.Errno) {
 
 // Peek tells a word of a ward's regions (P8).
 func (x *Kernel) Peek(ward int, address uint32) (uint32, api.Errno) {
-	if !x.has(ward) {
+	if !x.hasWard(ward) {
 		return 0, api.ErrWard
 	}
 	at, ok := x.wards[ward].find(address)
